@@ -1,0 +1,1 @@
+"""Numerical code and logs of roundings, judged for every number format."""

@@ -1,0 +1,89 @@
+"""The names, arguments and kinds of values that the interface lists, and the error classes."""
+
+import importlib
+import inspect
+import pathlib
+import unittest
+
+from everyformat import errors
+
+FUNCTIONS = {
+    "ratios": """is_fraction(thing), fraction(top, bottom), whole(number), plus(x, y), minus(x, y), times(x, y),
+        over(x, y), power_of(x, many), is_less(x, y), sign_of(x), size_of(x), floor_of(x), ceiling_of(x),
+        middle(x, y), in_order(fractions), simplest_between(low, high), ratio_text(x), ratio_by(text)""",
+    "straight": """is_form(thing, many), form_at(form, worths), constant_form(x, many), single_form(place, many),
+        plus_forms(form, other), scaled_form(form, x), longer_form(form, many), put_in(form, forms, many),
+        named_in(form), solved_for(form, place), span_of(form, stretches)""",
+    "systems": """is_system(thing, many), holds_at(system, worths), solve(system, many),
+        is_closing(system, thing), closed_lot(system, many), greatest(form, system, many),
+        is_greatest(form, system, thing), values_of(form, system, many), follows(system, form, strict, many),
+        tight(system, many), inner(system, many)""",
+}
+ERRORS = {
+    "NoPlace": (LookupError, ["place"]), "NothingDone": (LookupError, []), "BadLine": (ValueError, ["line"]),
+    "CanNot": (ValueError, []), "TooMuch": (ValueError, []), "Unfit": (ValueError, []),
+}
+
+
+def listed_calls(text):
+    """The pairs of a name and of its parameters in a text like f(a, b), g()."""
+    calls = []
+    for part in " ".join(text.split()).split("), "):
+        name, _, rest = part.rstrip(")").partition("(")
+        calls.append((name, [word for word in rest.split(", ") if word]))
+    return calls
+
+
+class Interface(unittest.TestCase):
+    def test_functions_are_there_with_their_parameters(self):
+        for file, text in FUNCTIONS.items():
+            module = importlib.import_module("everyformat." + file)
+            for name, parameters in listed_calls(text):
+                with self.subTest(file=file, name=name):
+                    self.check_function(module, name, parameters)
+
+    def check_function(self, module, name, parameters):
+        function = getattr(module, name)
+        self.assertTrue(inspect.isfunction(function))
+        self.assertEqual(function.__module__, module.__name__)
+        self.assertEqual(function.__name__, name)
+        found = inspect.signature(function).parameters.values()
+        self.assertEqual([one.name for one in found], parameters)
+        self.assertTrue(all(one.kind == one.POSITIONAL_OR_KEYWORD for one in found))
+        self.assertTrue(all(one.default is one.empty for one in found))
+
+    def test_functions_are_defined_where_they_are_listed(self):
+        folder = pathlib.Path(importlib.import_module("everyformat").__file__).parent
+        for file, text in FUNCTIONS.items():
+            source = "\n" + (folder / (file + ".py")).read_text()
+            for name, _ in listed_calls(text):
+                self.assertIn("\ndef " + name + "(", source)
+
+    def test_error_classes(self):
+        for name, (base, attributes) in ERRORS.items():
+            with self.subTest(name):
+                cls = getattr(errors, name)
+                self.assertEqual(cls.__bases__, (base,))
+                self.assertEqual(cls.__module__, "everyformat.errors")
+                values = [("a", 0)] * len(attributes)
+                for made in (cls(*values), cls(**dict(zip(attributes, values)))):
+                    self.assertEqual([getattr(made, key) for key in attributes], values)
+
+    def test_no_error_class_is_below_another(self):
+        for name in ERRORS:
+            for other in ERRORS:
+                if name != other:
+                    self.assertFalse(issubclass(getattr(errors, name), getattr(errors, other)))
+
+    def test_errors_are_raised_and_caught_by_their_bases(self):
+        with self.assertRaises(LookupError):
+            raise errors.NoPlace(3)
+        with self.assertRaises(LookupError):
+            raise errors.NothingDone()
+        for error in (errors.BadLine(1), errors.CanNot(), errors.TooMuch(), errors.Unfit()):
+            with self.assertRaises(ValueError):
+                raise error
+
+
+if __name__ == "__main__":
+    unittest.main()
