@@ -43,7 +43,7 @@ class Corner:
         steps = [row[at] for row in self.rows]
         return [sum([factor * steps[place] for place, factor in made[2]]) for made in self.pairs]
 
-    def values(self):
+    def standings(self):
         """What each pair has here more than it needs, times bottom."""
         wholes = [made[1] * self.bottom + x for made, x in zip(self.pairs, self.column(0))]
         hairs = [x - hair * self.bottom for hair, x in zip(self.hairs, self.column(1))]
@@ -99,7 +99,7 @@ def blocking(corner, at, sign, lifted):
     Pairs that are below 0 do not count, but for the one that is lifted (None: none is), which ends the way.
     """
     best = None
-    for place, (value, slope) in enumerate(zip(corner.values(), corner.column(at))):
+    for place, (value, slope) in enumerate(zip(corner.standings(), corner.column(at))):
         limit = (value, -sign * slope, place)
         if place == lifted:
             limit = ((-value[0], -value[1]), sign * slope, place)
@@ -133,7 +133,7 @@ def lifts(corner, place):
 def stuck_pair(corner):
     """Goes to a corner at which no pair is below 0, and returns None; or a pair that can't be lifted."""
     while True:
-        below = [place for place, value in enumerate(corner.values()) if value < (0, 0)]
+        below = [place for place, value in enumerate(corner.standings()) if value < (0, 0)]
         if not below:
             return None
         if not lifts(corner, below[0]):
@@ -162,7 +162,7 @@ def climbs(corner, made):
 def point_at(corner):
     """The FRACTIONS of the unknowns, hair being small enough for all pairs that are not below 0."""
     hair = (1, 1)
-    for value, hairs in corner.values():
+    for value, hairs in corner.standings():
         if hairs < 0:
             hair = lesser(hair, fraction(value, -hairs))
     return tuple([fraction(row[0] * hair[1] + row[1] * hair[0], corner.bottom * hair[1]) for row in corner.rows])

@@ -3,7 +3,7 @@
 A sample is a triple: a function, its arguments by name, in order, and the names of those that are a `thing`.
 """
 
-from everyformat import ratios, straight, systems
+from everyformat import chains, gaps, possible, ratios, rows, straight, systems, zones
 
 NONE, ONE, BACK, HALF = (0, 1), (1, 1), (-1, 1), (1, 2)
 FORM = ((1, 2), ((2, 1), (-1, 3)))
@@ -83,4 +83,90 @@ SYSTEM_SAMPLES = [
     (systems.tight, {"system": FLAT, "many": 2}, []),
     (systems.inner, {"system": FLAT, "many": 2}, []),
 ]
-SAMPLES = RATIO_SAMPLES + STRAIGHT_SAMPLES + SYSTEM_SAMPLES
+
+GAP = ((7, 1), NONE)
+TWO = (("low", GAP), ("high", None))
+LOG = ((0, "down", ONE, NONE), (1, "up", (8, 1), (10, 1)), (0, "near", (4, 1), (5, 1)))
+BARS = ((NONE, False, ONE, True), ((3, 1), True, (5, 1), False))
+OPEN = ((None, False, HALF, True), ((4, 1), False, None, False))
+LEVEL = (("low", GAP),)
+BAD = ((0, "down", (5, 1), NONE), (0, "member", (9, 1), (9, 1)), (0, "up", (5, 1), (8, 1)), (0, "up", (3, 1), (2, 1)))
+ROW_SAMPLES = [
+    (rows.is_gap, {"thing": GAP}, ["thing"]),
+    (rows.is_levels, {"thing": TWO}, ["thing"]),
+    (rows.is_row, {"levels": TWO, "thing": LOG[1]}, ["thing"]),
+    (rows.is_log, {"levels": TWO, "thing": LOG}, ["thing"]),
+    (rows.goes_right, {"row": LOG[0]}, []),
+    (rows.told, {"levels": TWO, "log": LOG, "level": 1}, []),
+    (rows.mirrored, {"levels": TWO, "log": LOG}, []),
+]
+ZONE_SAMPLES = [
+    (zones.is_stretch, {"thing": BARS[0]}, ["thing"]),
+    (zones.is_stretches, {"thing": BARS}, ["thing"]),
+    (zones.in_stretches, {"stretches": BARS, "x": (4, 1)}, []),
+    (zones.stretch_at, {"stretches": BARS, "x": (4, 1)}, []),
+    (zones.stretch_at, {"stretches": BARS, "x": (2, 1)}, []),
+    (zones.join_stretches, {"some": (BARS[1], OPEN[1], BARS[0], (NONE, True, NONE, True))}, []),
+    (zones.join_stretches, {"some": ()}, []),
+    (zones.meet_stretches, {"stretches": BARS, "others": OPEN}, []),
+    (zones.rest_of, {"stretches": BARS}, []),
+    (zones.rest_of, {"stretches": OPEN}, []),
+    (zones.run_with, {"stretches": BARS, "stretch": (ONE, False, (2, 1), True)}, []),
+    (zones.run_with, {"stretches": (), "stretch": OPEN[0]}, []),
+    (zones.zone, {"levels": TWO, "row": LOG[0]}, []),
+    (zones.zone, {"levels": TWO, "row": LOG[1]}, []),
+    (zones.zone, {"levels": TWO, "row": LOG[2]}, []),
+    (zones.zone, {"levels": TWO, "row": (1, "near", (5, 1), (4, 1))}, []),
+    (zones.zone, {"levels": TWO, "row": (1, "member", (5, 1), (5, 1))}, []),
+    (zones.bars, {"levels": TWO, "log": LOG, "level": 0}, []),
+    (zones.is_free, {"levels": TWO, "log": LOG, "level": 0, "x": (3, 1)}, []),
+    (zones.excess, {"gap": ((1, 1), HALF), "u": (-3, 1), "v": (2, 1)}, []),
+    (zones.lets, {"gap": GAP, "stretch": (NONE, False, (7, 1), False)}, []),
+]
+POSSIBLE_SAMPLES = [
+    (possible.fault, {"levels": LEVEL, "log": BAD}, []),
+    (possible.fault, {"levels": LEVEL, "log": BAD[:3]}, []),
+    (possible.fault, {"levels": LEVEL, "log": BAD[:2] + ((0, "member", ONE, ONE),)}, []),
+    (possible.fault, {"levels": TWO, "log": LOG}, []),
+    (possible.is_fault, {"levels": LEVEL, "log": BAD, "thing": ("way", 3)}, ["thing"]),
+    (possible.is_fault, {
+        "levels": LEVEL, "log": BAD[:3], "thing": ("long", 0, (NONE, False, (8, 1), False)),
+    }, ["thing"]),
+    (possible.is_possible, {"levels": LEVEL, "log": BAD}, []),
+    (possible.is_possible_lot, {"levels": LEVEL, "log": BAD, "lot": (0, 1)}, []),
+    (possible.possible_rows, {"levels": LEVEL, "log": BAD}, []),
+    (possible.least_lot, {"levels": LEVEL, "log": BAD[:3]}, []),
+    (possible.least_lot, {"levels": LEVEL, "log": BAD}, []),
+    (possible.is_least_lot, {"levels": LEVEL, "log": BAD[:3], "thing": (0, 2)}, ["thing"]),
+    (possible.key_rows, {"levels": LEVEL, "log": BAD[:3]}, []),
+    (possible.next_possible, {"levels": LEVEL, "log": BAD[:1], "row": BAD[2]}, []),
+    (possible.lot_bound, {"levels": TWO}, []),
+    (possible.sharp_log, {"many": 3}, []),
+]
+CHAIN = (((6, 1), (4, 1)), ((((-3, 1), NONE, (2, 1)), (((5, 2), (11, 2), HALF),)), (((-7, 2),), ())))
+CHAIN_SAMPLES = [
+    (chains.is_chain, {"levels": TWO, "thing": CHAIN}, ["thing"]),
+    (chains.is_member, {"levels": TWO, "chain": CHAIN, "level": 1, "x": (-7, 2)}, []),
+    (chains.is_member, {"levels": TWO, "chain": CHAIN, "level": 0, "x": (5, 1)}, []),
+    (chains.next_above, {"levels": TWO, "chain": CHAIN, "level": 0, "x": (11, 2)}, []),
+    (chains.next_above, {"levels": TWO, "chain": CHAIN, "level": 0, "x": (-6, 1)}, []),
+    (chains.next_above, {"levels": TWO, "chain": CHAIN, "level": 0, "x": (2, 1)}, []),
+    (chains.next_above, {"levels": TWO, "chain": CHAIN, "level": 0, "x": (3, 1)}, []),
+    (chains.next_below, {"levels": TWO, "chain": CHAIN, "level": 1, "x": (-3, 1)}, []),
+    (chains.next_below, {"levels": TWO, "chain": CHAIN, "level": 1, "x": (-7, 2)}, []),
+    (chains.next_below, {"levels": TWO, "chain": CHAIN, "level": 1, "x": (6, 1)}, []),
+    (chains.count_between, {"levels": TWO, "chain": CHAIN, "level": 1, "low": (-10, 1), "high": (3, 1)}, []),
+    (chains.mirrored_chain, {"levels": TWO, "chain": CHAIN}, []),
+    (chains.holds, {"levels": TWO, "chain": CHAIN, "row": (0, "near", ONE, NONE)}, []),
+    (chains.holds, {"levels": TWO, "chain": CHAIN, "row": (1, "member", (-7, 2), (-7, 2))}, []),
+    (gaps.worst_gap, {"levels": TWO, "chain": CHAIN, "level": 0}, []),
+    (gaps.worst_gap, {"levels": TWO, "chain": CHAIN, "level": 1}, []),
+    (gaps.keeps_gaps, {"levels": TWO, "chain": CHAIN}, []),
+    (gaps.shows, {"levels": TWO, "chain": CHAIN, "log": ((0, "near", ONE, NONE), (1, "up", (7, 1), (10, 1)))}, []),
+]
+for kind in ("down", "up", "near"):
+    for point in ((-9, 1), (-8, 1), (-6, 1), (-5, 1), ONE, (2, 1), (9, 4), (5, 2), (11, 4), (11, 2), (6, 1), (8, 1)):
+        named = {"levels": TWO, "chain": CHAIN, "level": 0, "kind": kind, "point": point}
+        CHAIN_SAMPLES.append((chains.round_by, named, []))
+LOG_SAMPLES = ROW_SAMPLES + ZONE_SAMPLES + POSSIBLE_SAMPLES + CHAIN_SAMPLES
+SAMPLES = RATIO_SAMPLES + STRAIGHT_SAMPLES + SYSTEM_SAMPLES + LOG_SAMPLES
