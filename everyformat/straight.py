@@ -32,6 +32,11 @@ def plus_forms(form, other):
     return (plus(form[0], other[0]), tuple([plus(x, y) for x, y in zip(form[1], other[1])]))
 
 
+def minus_forms(form, other):
+    """The FORM whose value is that of form less that of other."""
+    return plus_forms(form, scaled_form(other, (-1, 1)))
+
+
 def scaled_form(form, x):
     return (times(form[0], x), tuple([times(factor, x) for factor in form[1]]))
 

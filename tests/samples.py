@@ -3,7 +3,9 @@
 A sample is a triple: a function, its arguments by name, in order, and the names of those that are a `thing`.
 """
 
-from everyformat import chains, gaps, possible, ratios, rows, straight, systems, zones
+from everyformat import (
+    build, chains, gaps, leastgap, machine, possible, programs, ratios, results, rows, straight, systems, told, zones,
+)
 
 NONE, ONE, BACK, HALF = (0, 1), (1, 1), (-1, 1), (1, 2)
 FORM = ((1, 2), ((2, 1), (-1, 3)))
@@ -168,5 +170,51 @@ for kind in ("down", "up", "near"):
     for point in ((-9, 1), (-8, 1), (-6, 1), (-5, 1), ONE, (2, 1), (9, 4), (5, 2), (11, 4), (11, 2), (6, 1), (8, 1)):
         named = {"levels": TWO, "chain": CHAIN, "level": 0, "kind": kind, "point": point}
         CHAIN_SAMPLES.append((chains.round_by, named, []))
-LOG_SAMPLES = ROW_SAMPLES + ZONE_SAMPLES + POSSIBLE_SAMPLES + CHAIN_SAMPLES
+NEAR_LOG = ((0, "near", ONE, NONE), (1, "down", (5, 1), (9, 2)))
+NEAR_LEVELS = (("low", ((2, 1), HALF)), ("high", None))
+FORMAT_SAMPLES = [
+    (build.build_chain, {"levels": TWO, "log": LOG}, []),
+    (build.build_chain, {"levels": TWO, "log": ()}, []),
+    (build.chain_with, {"levels": TWO, "log": LOG, "level": 1, "x": (3, 1)}, []),
+    (build.chain_without, {"levels": TWO, "log": LOG, "level": 0, "x": (20, 1)}, []),
+    (build.parted_by, {"levels": NEAR_LEVELS, "log": NEAR_LOG, "level": 0, "x": (2, 1)}, []),
+    (build.least_step, {"levels": TWO, "level": 0}, []),
+    (told.member_status, {"levels": NEAR_LEVELS, "log": NEAR_LOG, "level": 0, "x": (2, 1)}, []),
+    (told.sure_members, {"levels": NEAR_LEVELS, "log": NEAR_LOG, "level": 1}, []),
+    (told.free_stretches, {"levels": NEAR_LEVELS, "log": NEAR_LOG, "level": 1}, []),
+    (told.can_have, {"levels": TWO, "log": LOG, "members": ((0, (3, 1)),), "others": ((1, (4, 1)),)}, []),
+    (told.why_not, {"levels": TWO, "log": LOG, "members": ((1, (3, 1)),), "others": ((1, (4, 1)),)}, []),
+    (told.why_not, {"levels": TWO, "log": LOG, "members": ((1, (9, 1)),), "others": ()}, []),
+    (told.why_not, {"levels": TWO, "log": LOG, "members": (), "others": ((1, (5, 1)), (0, NONE))}, []),
+    (told.why_not, {"levels": NEAR_LEVELS, "log": NEAR_LOG, "members": (), "others": ((1, (2, 1)),)}, []),
+    (results.results, {"levels": TWO, "log": LOG, "level": 0, "kind": "down", "point": (7, 1)}, []),
+    (results.results, {"levels": TWO, "log": LOG, "level": 1, "kind": "near", "point": (12, 1)}, []),
+    (results.results, {"levels": TWO, "log": LOG, "level": 0, "kind": "up", "point": (5, 1)}, []),
+    (results.sure_result, {"levels": TWO, "log": LOG, "level": 0, "kind": "down", "point": ONE}, []),
+    (results.farthest, {"levels": TWO, "log": LOG, "level": 0, "kind": "near", "point": (7, 1)}, []),
+    (results.farthest, {"levels": TWO, "log": LOG, "level": 0, "kind": "down", "point": ONE}, []),
+    (results.row_status, {"levels": TWO, "log": LOG, "row": (0, "near", (7, 1), (5, 1))}, []),
+    (results.row_status, {"levels": TWO, "log": LOG, "row": (1, "member", (7, 1), (7, 1))}, []),
+    (leastgap.least_gap, {"levels": NEAR_LEVELS, "log": NEAR_LOG, "level": 0, "g": HALF}, []),
+    (leastgap.gap_lot, {"levels": NEAR_LEVELS, "log": NEAR_LOG, "level": 0, "g": HALF}, []),
+    (leastgap.is_gap_lot, {"levels": NEAR_LEVELS, "log": NEAR_LOG, "level": 0, "g": NONE, "thing": (0,)}, ["thing"]),
+]
+PROGRAM = ((0, None), (
+    ("round", 0, "near", (NONE, (HALF, HALF))), ("exact", (ONE, (ONE, NONE, BACK))), ("least", 1, 3), ("greatest", 0, 0),
+    ("pick", (HALF, (ONE, BACK, NONE, NONE, NONE, NONE)), 5, 2),
+))
+PROGRAM_SAMPLES = [
+    (programs.is_program, {"levels": TWO, "thing": PROGRAM}, ["thing"]),
+    (programs.traces, {"levels": TWO, "program": PROGRAM}, []),
+    (programs.cell_levels, {"levels": TWO, "program": PROGRAM}, []),
+    (programs.straightened, {"levels": TWO, "program": PROGRAM, "way": (True, False, True)}, []),
+    (programs.straightened, {"levels": TWO, "program": PROGRAM, "way": (False, True, False)}, []),
+    (programs.mirrored_program, {"program": PROGRAM}, []),
+    (machine.run_exact, {"program": PROGRAM, "worths": (ONE, HALF)}, []),
+    (machine.run_in, {"levels": TWO, "chain": CHAIN, "program": PROGRAM, "worths": ((2, 1), HALF)}, []),
+    (machine.log_of_run, {"levels": TWO, "chain": CHAIN, "program": PROGRAM, "worths": ((2, 1), HALF)}, []),
+    (machine.way_of, {"levels": TWO, "chain": CHAIN, "program": PROGRAM, "worths": ((2, 1), HALF)}, []),
+    (machine.exact_way, {"program": PROGRAM, "worths": (ONE, HALF)}, []),
+]
+LOG_SAMPLES = ROW_SAMPLES + ZONE_SAMPLES + POSSIBLE_SAMPLES + CHAIN_SAMPLES + FORMAT_SAMPLES + PROGRAM_SAMPLES
 SAMPLES = RATIO_SAMPLES + STRAIGHT_SAMPLES + SYSTEM_SAMPLES + LOG_SAMPLES
