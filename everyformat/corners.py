@@ -28,6 +28,14 @@ class Corner:
         self.heads = [-1 - place for place in range(many)]
         self.rows = [[0, 0] + [1 if at == place else 0 for at in range(many)] for place in range(many)]
 
+    def grown(self, made):
+        """Another Corner, at the same place, with further pairs, of a whole FORM and whether it is strict."""
+        corner = Corner((), self.many)
+        corner.pairs = self.pairs + [form for form, _ in made]
+        corner.hairs = self.hairs + [1 if strict else 0 for _, strict in made]
+        corner.bottom, corner.heads, corner.rows = self.bottom, list(self.heads), self.rows
+        return corner
+
     def row_of(self, made, hair):
         """What a FORM that was made whole is, less hair, in terms of (1, hair, the heads), times bottom."""
         row = [made[1] * self.bottom, -hair * self.bottom] + [0] * self.many

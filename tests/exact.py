@@ -2,7 +2,7 @@
 
 from fractions import Fraction
 
-from tests import grids
+from tests import formats, grids, plays
 from tests.judges import pair, quotient
 
 
@@ -115,3 +115,86 @@ def interesting(rng, levels, log, many):
     picked = rng.sample(ends, min(len(ends), many))
     beside = [x + rng.choice([-1, 1]) * Fraction(1, rng.choice([2, 4, 100])) for x in picked[:many // 2]]
     return [pair(x) for x in picked + beside + [Fraction(rng.randint(-30, 30), rng.choice([1, 2, 3]))]]
+
+
+def far_below(far, x):
+    """The greatest far member that is at most x."""
+    start, step = far
+    if x >= start:
+        return start + (x - start) // step * step
+    if x >= -start:
+        return -start
+    return -start - -((x + start) // step) * step
+
+
+def below_in(chain, level, x):
+    """The greatest member for a level that is at most x."""
+    far, parts = [quotient(end) for end in chain[0]], chain[1]
+    found = [far_below(far, x)]
+    for marks, fills in parts[:level + 1]:
+        found += [quotient(mark) for mark in marks if quotient(mark) <= x]
+        for fill in fills:
+            low, high, step = [quotient(end) for end in fill]
+            if low <= x:
+                found.append(high if x >= high else low + (x - low) // step * step)
+    return max(found)
+
+
+def mirrored_chain(chain):
+    parts = []
+    for marks, fills in chain[1]:
+        turned = tuple((pair(-quotient(high)), pair(-quotient(low)), step) for low, high, step in fills)
+        parts.append((tuple(pair(-quotient(mark)) for mark in marks), turned))
+    return (chain[0], tuple(parts))
+
+
+def round_in(levels, chain, level, kind, x):
+    """What x is rounded to in a CHAIN, however many members it has."""
+    below = below_in(chain, level, x)
+    if kind == "down":
+        return below
+    above = -below_in(mirrored_chain(chain), level, -x)
+    if kind == "up" or (above - x, levels[level][0] == "low") < (x - below, True):
+        return above
+    return below
+
+
+def played_in(levels, chain, program, worths):
+    """The cells, the WAY and the LOG of a run in a CHAIN."""
+    log = [(level, "member", pair(x), pair(x)) for level, x in zip(program[0], worths) if level is not None]
+
+    def rounding(level, kind, point):
+        result = round_in(levels, chain, level, kind, point)
+        log.append((level, kind, pair(point), pair(result)))
+        return result
+
+    cells, way = plays.played(program, worths, rounding)
+    return cells, way, tuple(log)
+
+
+def some_formats(rng, gapped=False):
+    """LEVELS, a CHAIN that keeps their GAPS, and its members in a window for each level.
+
+    Only the widest level has a GAP, if gapped: one that is kept just so, or by some more.
+    """
+    levels, chain, members = formats.some_chain(rng, 3)
+    found = [(side, None) for side, _ in levels]
+    if gapped:
+        g = rng.choice([Fraction(0), Fraction(0), Fraction(1, 4), Fraction(1, 2)])
+        worst = max(v - u - g * min(abs(u), abs(v)) for u, v in zip(members[-1], members[-1][1:]))
+        width = max(worst, quotient(chain[0][1]) - g * quotient(chain[0][0])) + rng.choice([0, 0, Fraction(1, 3)])
+        if width > 0:
+            found[-1] = (found[-1][0], (pair(width), pair(g)))
+    return tuple(found), chain, members
+
+
+def rows_in(rng, levels, chain, members, many):
+    """ROWS that hold in a CHAIN."""
+    log = []
+    for _ in range(many):
+        level, kind = rng.randrange(len(levels)), rng.choice(["down", "up", "near", "near", "member"])
+        x = formats.some_point(rng, members[level]) if rng.random() < 0.3 else Fraction(rng.randint(-24, 24), rng.choice([1, 2]))
+        if kind == "member":
+            x = min(members[level], key=lambda one: abs(one - x))
+        log.append((level, kind, pair(x), pair(x if kind == "member" else round_in(levels, chain, level, kind, x))))
+    return tuple(log)

@@ -4,7 +4,8 @@ A sample is a triple: a function, its arguments by name, in order, and the names
 """
 
 from everyformat import (
-    build, chains, gaps, leastgap, machine, possible, programs, ratios, results, rows, straight, systems, told, zones,
+    build, cases, chains, decide, drift, gaps, leastgap, machine, possible, programs, ratios, results, rows, straight,
+    systems, texts, told, zones,
 )
 
 NONE, ONE, BACK, HALF = (0, 1), (1, 1), (-1, 1), (1, 2)
@@ -216,5 +217,46 @@ PROGRAM_SAMPLES = [
     (machine.way_of, {"levels": TWO, "chain": CHAIN, "program": PROGRAM, "worths": ((2, 1), HALF)}, []),
     (machine.exact_way, {"program": PROGRAM, "worths": (ONE, HALF)}, []),
 ]
-LOG_SAMPLES = ROW_SAMPLES + ZONE_SAMPLES + POSSIBLE_SAMPLES + CHAIN_SAMPLES + FORMAT_SAMPLES + PROGRAM_SAMPLES
-SAMPLES = RATIO_SAMPLES + STRAIGHT_SAMPLES + SYSTEM_SAMPLES + LOG_SAMPLES
+LEVELS_TEXT, PROGRAM_TEXT = "low gap 4 1/2\nhigh", "a in 0\nb = least(near.1(a + 1), 2*a) if a - 1/2 else a"
+TEXT_SAMPLES = [
+    (texts.text_of_levels, {"levels": TWO}, []),
+    (texts.text_of_log, {"log": LOG}, []),
+    (texts.text_of_chain, {"chain": CHAIN}, []),
+    (texts.text_of_program, {"program": PROGRAM}, []),
+    (texts.levels_by, {"text": LEVELS_TEXT}, []),
+    (texts.log_by, {"levels": TWO, "text": "0 down 7/2 3\n1 member 4"}, []),
+    (texts.chain_by, {"levels": TWO, "text": "far 6 4\n1 mark 2\n0 fill 3 4 1/2\n0 mark -1"}, []),
+    (texts.program_by, {"levels": TWO, "text": PROGRAM_TEXT}, []),
+]
+WIDE = (("low", None), ("high", ((3, 1), HALF)))
+WIDE_LOG = ((1, "near", (4, 1), (5, 1)), (0, "member", NONE, NONE), (0, "down", (8, 1), (7, 1)))
+SHORT = ((None, 0), (("round", 1, "near", (NONE, (HALF, HALF))), ("exact", (ONE, (NONE, NONE, (2, 1)))), ("least", 0, 3)))
+FACTS = (((NONE, (BACK, ONE)), False), (((2, 1), (ONE, NONE)), True))
+SOME, SURE = ("at least", ((-2, 1), (NONE, NONE, ONE, NONE, NONE))), ("at least", (NONE, (ONE, NONE, NONE, NONE, BACK)))
+ASKED = {"levels": WIDE, "log": WIDE_LOG, "program": SHORT, "facts": FACTS}
+RUN_SAMPLES = [
+    (cases.letter_forms, {"program": SHORT}, []),
+    (cases.denials, {"program": SHORT, "claim": ("equal", SOME[1])}, []),
+    (cases.denials, {"program": SHORT, "claim": SURE}, []),
+    (cases.conditions, {"levels": WIDE, "log": WIDE_LOG, "program": SHORT}, []),
+    (decide.signs, {**ASKED, "form": SOME[1]}, []),
+    (decide.claim_status, {**ASKED, "claim": SOME}, []),
+    (decide.some_run, ASKED, []),
+    (decide.counter, {**ASKED, "claim": SOME}, []),
+    (decide.counter, {**ASKED, "claim": SURE}, []),
+    (decide.ways, ASKED, []),
+    (decide.leans_on, {**ASKED, "claim": SURE}, []),
+    (decide.trees, {**ASKED, "claim": SURE}, []),
+    (decide.trees, {**ASKED, "claim": SOME}, []),
+    (drift.exact_twin, {"program": SHORT}, []),
+    (drift.worth_stretch, {**ASKED, "form": SOME[1]}, []),
+    (drift.drift_stretch, {**ASKED, "cell": 2}, []),
+    (drift.greatest_drift, {**ASKED, "cell": 3}, []),
+    (drift.is_drift, {**ASKED, "cell": 1, "thing": (NONE, True)}, ["thing"]),
+    (drift.drift_run, {**ASKED, "cell": 4, "size": HALF}, []),
+    (drift.drift_run, {**ASKED, "cell": 0, "size": HALF}, []),
+    (drift.drift_status, {**ASKED, "cell": 2, "rate": HALF, "shift": ONE}, []),
+    (drift.least_shift, {**ASKED, "cell": 2, "rate": HALF}, []),
+]
+LOG_SAMPLES = ROW_SAMPLES + ZONE_SAMPLES + POSSIBLE_SAMPLES + CHAIN_SAMPLES + FORMAT_SAMPLES
+SAMPLES = RATIO_SAMPLES + STRAIGHT_SAMPLES + SYSTEM_SAMPLES + LOG_SAMPLES + PROGRAM_SAMPLES + TEXT_SAMPLES + RUN_SAMPLES

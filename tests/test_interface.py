@@ -45,6 +45,18 @@ FUNCTIONS = {
         straightened(levels, program, way), mirrored_program(program)""",
     "machine": """run_exact(program, worths), run_in(levels, chain, program, worths),
         log_of_run(levels, chain, program, worths), way_of(levels, chain, program, worths), exact_way(program, worths)""",
+    "texts": """text_of_levels(levels), text_of_log(log), text_of_chain(chain), text_of_program(program),
+        levels_by(text), log_by(levels, text), chain_by(levels, text), program_by(levels, text)""",
+    "cases": "letter_forms(program), denials(program, claim), conditions(levels, log, program)",
+    "decide": """signs(levels, log, program, facts, form), claim_status(levels, log, program, facts, claim),
+        some_run(levels, log, program, facts), counter(levels, log, program, facts, claim),
+        ways(levels, log, program, facts), leans_on(levels, log, program, facts, claim),
+        trees(levels, log, program, facts, claim)""",
+    "drift": """exact_twin(program), worth_stretch(levels, log, program, facts, form),
+        drift_stretch(levels, log, program, facts, cell), greatest_drift(levels, log, program, facts, cell),
+        is_drift(levels, log, program, facts, cell, thing), drift_run(levels, log, program, facts, cell, size),
+        drift_status(levels, log, program, facts, cell, rate, shift),
+        least_shift(levels, log, program, facts, cell, rate)""",
     "gaps": "worst_gap(levels, chain, level), keeps_gaps(levels, chain), shows(levels, chain, log)",
 }
 ERRORS = {
