@@ -110,6 +110,12 @@ class Edges(unittest.TestCase):
         with self.assertRaises(CanNot):
             build_chain((("low", (pair(Fraction(6 * BIG - 1, BIG)), (0, 1))),), joined)
 
+    def test_little_room_between_two_bars(self):
+        levels = (("low", ((3, 2), (0, 1))),)
+        for room in (Fraction(1, 1000), Fraction(1, BIG)):
+            log = ((0, "down", (1, 1), (0, 1)), (0, "up", pair(1 + room), (2, 1)))
+            self.assertTrue(exact.shows(levels, build_chain(levels, log), log))
+
     def test_a_bar_that_begins_where_another_level_ends(self):
         levels = (("low", ((9, 1), (0, 1))), ("high", None), ("low", ((5, 2), (0, 1))))
         log = ((2, "near", (1, 1), (2, 1)), (1, "down", (4, 1), (2, 1)), (0, "up", (4, 1), (7, 1)))

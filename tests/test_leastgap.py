@@ -108,10 +108,28 @@ class Edges(unittest.TestCase):
         self.assertEqual(least_gap(wide, log, 1, (0, 1)), ((4, 1), False))
         self.assertEqual((gap_lot(wide, log, 0, (0, 1)), gap_lot(wide, log, 1, (0, 1))), ((0, 1), (1,)))
 
+    def test_the_side_of_the_level_stays(self):
+        log = ((0, "near", (1, 1), (2, 1)), (0, "member", (0, 1), (0, 1)))
+        self.assertEqual(least_gap((("high", None),), log, 0, (0, 1)), ((2, 1), True))
+        with self.assertRaises(Unfit):
+            least_gap((("low", None),), log, 0, (0, 1))
+
     def test_great_numbers(self):
         log = ((0, "down", (BIG - 1, 1), (-BIG, 1)), (0, "up", (BIG - 1, BIG), (BIG, 1)))
         self.assertEqual(least_gap(SEVEN, log, 0, (BIG - 1, BIG)), ((BIG + 1, 1), True))
         self.assertEqual(least_gap(SEVEN, (log[0],), 0, (1, BIG)), (pair(2 * BIG - 1 - Fraction(BIG - 1, BIG)), False))
+
+    def test_sixty_rows_of_five_levels(self):
+        levels = tuple(("high" if at % 2 else "low", (pair(BIG), (0, 1))) for at in range(5))
+        log = [(at % 5, "down", pair(3 * at + 2), pair(3 * at)) for at in range(30)]
+        log += [(at % 5, "up", pair(3 * at + Fraction(3, 2) + Fraction(at, 100)), pair(3 * at + 3)) for at in range(30)]
+        for level in range(5):
+            for g in ((0, 1), (1, 1000)):
+                self.assertEqual(least_gap(levels, log, level, g), least_by_judge(levels, log, level, g))
+                lot = gap_lot(levels, log, level, g)
+                self.assertEqual(least_by_judge(levels, [log[number] for number in lot], level, g), least_gap(levels, log, level, g))
+                self.assertIs(is_gap_lot(levels, log, level, g, lot), True)
+                self.assertIs(is_gap_lot(levels, log, level, g, tuple(range(60))), False)
 
     def test_nearly_lots(self):
         log = ((0, "down", (5, 1), (0, 1)), (0, "up", (5, 1), (9, 1)), (0, "member", (20, 1), (20, 1)))

@@ -131,6 +131,15 @@ class Edges(unittest.TestCase):
         log = ((1, "member", (-1, 1), (-1, 1)),)
         self.assertEqual(results(levels, log, 0, "down", (0, 1)), (((-2, 1), False, (0, 1), True),))
 
+    def test_what_is_shut_out_grows_by_leaps(self):
+        """Level 0 has the BARS (0, 4), (4, 9), [12, 18); for level 1 all from 9 on are free, 18 alone is told."""
+        log = ((2, "near", (2, 1), (0, 1)), (2, "near", (13, 2), (4, 1)), (0, "up", (12, 1), (18, 1)))
+        four, nine = ((4, 1), True, (4, 1), True), (9, 1)
+        for width, expected in ((13, ((nine, True, (12, 1), False),)), (14, (four, (nine, True, (16, 1), False))),
+                                (15, (four, (nine, True, (16, 1), False))), (18, (four, (nine, True, (18, 1), True)))):
+            levels = (("low", (pair(width), (0, 1))), ("low", None), ("low", None))
+            self.assertTrue(is_same(results(levels, log, 1, "near", (10, 1)), expected), width)
+
     def test_great_numbers(self):
         levels = tuple(("low", (pair(BIG), pair(Fraction(1, BIG)))) for _ in range(5))
         log = [(at % 5, "up", pair(BIG - at * 10 ** 28 - Fraction(1, BIG)), pair(BIG - at * 10 ** 28)) for at in range(60)]

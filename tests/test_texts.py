@@ -231,6 +231,7 @@ class Programs(Texts):
                 else:
                     self.check_bad(self.read, text, 2)
         self.assertTrue(self.read("a free\nb = " + " + ".join(["(" * 20 + "a" + ")" * 20] * 9)))
+        self.check_bad(self.read, "a free\nb = " + "((a)) + (a) + " + "(" * 21 + "a" + ")" * 21, 2)
         self.check_bad(self.read, "a free\nb = " + "(" * 5000 + "a" + ")" * 5000, 2)
         self.check_bad(self.read, "a free\nb = least(" + "(" * 20 + "a" + ")" * 20 + ", a)", 2)
 
