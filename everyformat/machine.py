@@ -16,12 +16,16 @@ def run_in(levels, chain, program, worths):
 
 
 def log_of_run(levels, chain, program, worths):
-    cells, _ = _run(levels, chain, program, worths)
-    starts, steps = tupled(program)
+    return rows_of(tupled(program), _run(levels, chain, program, worths)[0])
+
+
+def rows_of(program, cells):
+    """The LOG of a run with these cells."""
+    starts, steps = program
     log = [(level, "member", x, x) for level, x in zip(starts, cells) if level is not None]
     for cell, step in enumerate(steps, start=len(starts)):
         if step[0] == "round":
-            log.append((step[1], step[2], form_at(step[3], cells[:cell]), cells[cell]))
+            log.append((step[1], step[2], form_at(step[3], cells), cells[cell]))
     return tuple(log)
 
 

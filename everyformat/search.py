@@ -1,19 +1,20 @@
 """The search for runs of a PROGRAM: FRACTIONS for the letters that keep a case of each CONDITION.
 
-From a corner of what is asked so far, a CONDITION that none of its cases keeps there is looked for, and its
-cases are asked for one after the other. What a corner says is meant with `hair` (corners.py) as little as needed,
-and, if something grows without end, as far out as needed.
+At a corner of what is asked so far, a CONDITION is looked for of which no case holds there, and its cases are
+asked for one after the other. What holds at a corner is meant with `hair` (corners.py) as little as needed, and,
+if something grows without end, as far out as needed.
 """
 
 from everyformat.build import build_chain
 from everyformat.cases import check_bearable, letter_forms, many_letters, told_conditions
 from everyformat.corners import Corner, closing_weights, stuck_pair, whole_form
+from everyformat.machine import rows_of
 from everyformat.possible import fault
 from everyformat.ratios import ceiling_of, fraction, lesser, over
 from everyformat.shapes import tupled
 from everyformat.straight import form_at, longer_form, put_in
 
-# How many CONDITIONS are tried out, those first that are farthest from being kept.
+# How many CONDITIONS are tried out, those first that are farthest from holding.
 TRIES = 3
 
 
@@ -63,7 +64,7 @@ class Spot:
 
 
 def _shortfall(spot, case):
-    """None if a case is kept here; otherwise a pair that tells how far its worst pair is from being kept."""
+    """None if a case holds here; otherwise a pair that tells how far its worst pair is from holding."""
     worst = None
     for made, strict in case:
         worth = spot.worth(made)
@@ -75,7 +76,7 @@ def _shortfall(spot, case):
 
 
 def open_places(field, spot):
-    """The places of the CONDITIONS of which no case is kept here, those first that are farthest from it."""
+    """The places of the CONDITIONS of which no case holds here, those first that are farthest from it."""
     found = []
     for place, cases in enumerate(field.made):
         least = None
@@ -196,13 +197,9 @@ def some_letters(field, pairs):
 
 def run_of(field, letters):
     """A run as a pair (CHAIN, WORTHS), its letters being known."""
-    starts, steps = field.program
     cells = [form_at(form, letters) for form in field.forms]
-    log = [(level, "member", x, x) for level, x in zip(starts, cells) if level is not None]
-    for cell, step in enumerate(steps, start=len(starts)):
-        if step[0] == "round":
-            log.append((step[1], step[2], form_at(step[3], cells), cells[cell]))
-    return (build_chain(field.levels, field.log + tuple(log)), tuple(cells[:len(starts)]))
+    log = field.log + rows_of(field.program, cells)
+    return (build_chain(field.levels, log), tuple(cells[:len(field.program[0])]))
 
 
 def run_with_pairs(field, pairs):
