@@ -6,7 +6,7 @@ The exact twin of a PROGRAM has both, so the drift of a cell is the value of a F
 from everyformat.bounds import most_of, stretch_of
 from everyformat.cases import turned
 from everyformat.errors import CanNot
-from everyformat.programs import size_of_program
+from everyformat.programs import exact_steps, moved_step, size_of_program
 from everyformat.ratios import greater, is_fraction, is_less, negated
 from everyformat.search import Field, run_with_pairs, some_letters
 from everyformat.shapes import check_place, is_truth, is_tuple_of, tupled
@@ -16,24 +16,8 @@ from everyformat.straight import constant_form, minus_forms, plus_forms, scaled_
 def exact_twin(program):
     starts, steps = tupled(program)
     moves = list(range(len(starts))) + list(range(len(starts) + len(steps), len(starts) + 2 * len(steps)))
-    return (starts, steps + tuple([_twin_step(step, moves, moves[len(starts) + at]) for at, step in enumerate(steps)]))
-
-
-def _twin_step(step, moves, cell):
-    """A STEP, exact, as that of this cell, with the new cells in the place of the old ones."""
-    if step[0] in ("round", "exact"):
-        return ("exact", _moved(step[-1], moves, cell))
-    if step[0] == "pick":
-        return ("pick", _moved(step[1], moves, cell), moves[step[2]], moves[step[3]])
-    return (step[0], moves[step[1]], moves[step[2]])
-
-
-def _moved(form, moves, many):
-    """A FORM as one of so many cells, each cell that it names being moved."""
-    factors = [(0, 1)] * many
-    for cell, factor in enumerate(form[1]):
-        factors[moves[cell]] = factor
-    return (form[0], tuple(factors))
+    twins = [moved_step(step, moves, moves[len(starts) + at]) for at, step in enumerate(exact_steps(steps))]
+    return (starts, steps + tuple(twins))
 
 
 def worth_stretch(levels, log, program, facts, form):

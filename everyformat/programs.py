@@ -1,7 +1,7 @@
 """PROGRAMS: which values they are, the traces and levels of their cells, and their straight and mirrored forms."""
 
 from everyformat.errors import Unfit
-from everyformat.ratios import negated
+from everyformat.ratios import negated, plus
 from everyformat.rows import TURNED
 from everyformat.shapes import is_number, is_tuple_of, is_word_of, tupled
 from everyformat.straight import (
@@ -72,14 +72,14 @@ def _traced(program):
     forms = [single_form(cell, many) for cell in range(len(starts))]
     ranks = list(starts)
     for step in steps:
-        form, rank = _trace_of(step, forms, ranks, many)
+        form, rank = trace_of(step, forms, ranks, many)
         forms.append(form)
         ranks.append(rank)
     return (forms, ranks)
 
 
-def _trace_of(step, forms, ranks, many):
-    """The trace and the level of the next cell, those of the cells before it being known."""
+def trace_of(step, forms, ranks, many):
+    """The trace, of so many cells, and the level of the next cell, those of the cells before it being known."""
     alone = single_form(len(forms), many)
     if step[0] in CHOICES:
         a, b = step[-2:]
@@ -126,6 +126,31 @@ def _way_pair(step, is_first, many):
     """The pair of a SYSTEM that says which cell a choice takes."""
     form = choice_form(step, many)
     return (form, False) if is_first else (scaled_form(form, (-1, 1)), True)
+
+
+def moved_step(step, moves, many):
+    """A STEP with so many cells before it, each cell that it names being moved."""
+    if step[0] == "round":
+        return ("round", step[1], step[2], moved_form(step[3], moves, many))
+    if step[0] == "exact":
+        return ("exact", moved_form(step[1], moves, many))
+    if step[0] == "pick":
+        return ("pick", moved_form(step[1], moves, many), moves[step[2]], moves[step[3]])
+    return (step[0], moves[step[1]], moves[step[2]])
+
+
+def moved_form(form, moves, many):
+    """A FORM as one of so many cells, each cell that it names being moved; two may come together."""
+    factors = [(0, 1)] * many
+    for cell, factor in enumerate(form[1]):
+        if factor[0]:
+            factors[moves[cell]] = plus(factors[moves[cell]], factor)
+    return (form[0], tuple(factors))
+
+
+def exact_steps(steps):
+    """STEPS with exact ones in the place of roundings."""
+    return tuple([("exact", step[3]) if step[0] == "round" else step for step in steps])
 
 
 def mirrored_program(program):

@@ -4,10 +4,11 @@ import copy
 import unittest
 
 from tests.helpers import has_list, is_same, listed, listed_within, turned_about
+from tests.more_samples import MORE_SAMPLES
 from tests.samples import SAMPLES
 
 
-LISTS = ("traces", "cell_levels", "letter_forms", "denials", "conditions")
+LISTS = ("traces", "cell_levels", "letter_forms", "denials", "conditions", "all_reduced", "loop_run")
 
 
 def parts_of_result(function, result):
@@ -23,7 +24,7 @@ def with_lists(named, things, change):
 
 class GeneralRules(unittest.TestCase):
     def check_each(self, check):
-        for function, named, things in SAMPLES:
+        for function, named, things in SAMPLES + MORE_SAMPLES:
             with self.subTest(function=function.__name__, named=named):
                 check(function, named, things)
 
