@@ -2,7 +2,7 @@
 
 from everyformat.programs import ROUNDINGS
 from everyformat.ratios import lesser, times
-from everyformat.shapes import check_place, is_number, is_tuple_of, is_word_of, tupled
+from everyformat.shapes import check_place, is_place, is_tuple_of, is_word_of, tupled
 from everyformat.views import above, chain_of_view, led, rows_of_word, turned_word_of
 
 
@@ -11,9 +11,7 @@ def is_word(levels, thing):
 
 
 def _is_rounding(levels, thing):
-    if not is_tuple_of(thing, 2) or not is_number(thing[0]) or not is_word_of(thing[1], ROUNDINGS):
-        return False
-    return 0 <= thing[0] < len(levels)
+    return is_tuple_of(thing, 2) and is_place(thing[0], len(levels)) and is_word_of(thing[1], ROUNDINGS)
 
 
 def reduced(word):

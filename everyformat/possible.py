@@ -6,7 +6,7 @@ one ROW shuts out the result of the other, and the zone of each ROW; what holds 
 
 from everyformat.errors import CanNot, Unfit
 from everyformat.rows import goes_right
-from everyformat.shapes import check_place, is_number, is_set_below, is_word_of, tupled
+from everyformat.shapes import check_place, is_place, is_set_below, is_word_of, tupled
 from everyformat.zones import bars, in_stretches, is_stretch, join_stretches, lets, run_with, zone
 
 FAULTS = ("way", "inside", "long")
@@ -60,16 +60,12 @@ def is_fault(levels, log, thing):
     if not isinstance(thing, tuple) or not thing or not is_word_of(thing[0], FAULTS):
         return False
     if thing[0] == "way":
-        return len(thing) == 2 and _is_row_number(log, thing[1]) and not goes_right(log[thing[1]])
+        return len(thing) == 2 and is_place(thing[1], len(log)) and not goes_right(log[thing[1]])
     if len(thing) != 3:
         return False
     if thing[0] == "inside":
-        return _is_row_number(log, thing[1]) and _is_row_number(log, thing[2]) and _shuts(levels, log, thing)
-    return _is_row_number(levels, thing[1]) and is_stretch(thing[2]) and _is_long(levels, log, thing)
-
-
-def _is_row_number(log, thing):
-    return is_number(thing) and 0 <= thing < len(log)
+        return is_place(thing[1], len(log)) and is_place(thing[2], len(log)) and _shuts(levels, log, thing)
+    return is_place(thing[1], len(levels)) and is_stretch(thing[2]) and _is_long(levels, log, thing)
 
 
 def _shuts(levels, log, thing):

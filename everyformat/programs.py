@@ -3,7 +3,7 @@
 from everyformat.errors import Unfit
 from everyformat.ratios import negated, plus
 from everyformat.rows import TURNED
-from everyformat.shapes import is_number, is_tuple_of, is_word_of, tupled
+from everyformat.shapes import is_place, is_tuple_of, is_word_of, tupled
 from everyformat.straight import (
     is_form, longer_form, minus_forms, named_in, put_in, scaled_form, single_form,
 )
@@ -18,13 +18,9 @@ def is_program(levels, thing):
     if not is_tuple_of(thing, 2) or not isinstance(thing[0], tuple) or not isinstance(thing[1], tuple):
         return False
     starts, steps = thing
-    if not all([start is None or _is_place(start, len(levels)) for start in starts]):
+    if not all([start is None or is_place(start, len(levels)) for start in starts]):
         return False
     return all([is_step(levels, step, len(starts) + at) for at, step in enumerate(steps)])
-
-
-def _is_place(thing, many):
-    return is_number(thing) and 0 <= thing < many
 
 
 def is_step(levels, thing, many):
@@ -32,16 +28,16 @@ def is_step(levels, thing, many):
     if not isinstance(thing, tuple) or not thing:
         return False
     if is_word_of(thing[0], ("round",)):
-        if len(thing) != 4 or not _is_place(thing[1], len(levels)):
+        if len(thing) != 4 or not is_place(thing[1], len(levels)):
             return False
         return is_word_of(thing[2], ROUNDINGS) and is_form(thing[3], many)
     if is_word_of(thing[0], ("exact",)):
         return len(thing) == 2 and is_form(thing[1], many)
     if is_word_of(thing[0], EXTREMES):
-        return len(thing) == 3 and _is_place(thing[1], many) and _is_place(thing[2], many)
+        return len(thing) == 3 and is_place(thing[1], many) and is_place(thing[2], many)
     if not is_word_of(thing[0], ("pick",)) or len(thing) != 4 or not is_form(thing[1], many):
         return False
-    return _is_place(thing[2], many) and _is_place(thing[3], many)
+    return is_place(thing[2], many) and is_place(thing[3], many)
 
 
 def size_of_program(program):

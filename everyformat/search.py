@@ -13,6 +13,7 @@ from everyformat.possible import fault
 from everyformat.ratios import ceiling_of, fraction, lesser, over
 from everyformat.shapes import tupled
 from everyformat.straight import form_at, longer_form, put_in
+from everyformat.trees import without_pairs
 
 # How many CONDITIONS are tried out, those first that are farthest from holding.
 TRIES = 3
@@ -160,16 +161,9 @@ def _unwound(stack, done):
             used = sorted([one for _, places in parts for one in places if one < many])
             done = (("cases", place, tuple([tree for tree, _ in parts])), used)
         else:
-            done = (_without(done[0], many, width), done[1])
+            done = (without_pairs(done[0], many, width), done[1])
         stack.pop()
     return done
-
-
-def _without(tree, many, width):
-    """A TREE without the weights of so many pairs from a place on."""
-    if tree[0] == "closed":
-        return ("closed", tree[1][:many] + tree[1][many + width:])
-    return ("cases", tree[1], tuple([_without(part, many, width) for part in tree[2]]))
 
 
 def _letters_at(field, corner, spot):

@@ -27,6 +27,11 @@ def is_tuple_of(thing, many):
     return isinstance(thing, tuple) and len(thing) == many
 
 
+def is_place(thing, many):
+    """Whether thing is a number from 0 on that is less than many."""
+    return is_number(thing) and 0 <= thing < many
+
+
 def is_set_below(thing, many):
     """Whether thing is an ascending tuple of numbers from 0 on that are below many."""
     if not isinstance(thing, tuple) or not all([is_number(item) for item in thing]):

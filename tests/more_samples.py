@@ -1,6 +1,6 @@
-"""Further calls of functions, as in samples.py: for PROGRAMS that are compared, WORDS and LOOPS."""
+"""Further calls of functions, as in samples.py: for PROGRAMS that are compared, WORDS, LOOPS, PAPERS and the desk."""
 
-from everyformat import alike, ends, loops, passings, rewrite
+from everyformat import alike, desk, ends, far, loops, papers, passings, rewrite, trees
 from tests.samples import ASKED, BACK, CHAIN, FACTS, HALF, NONE, ONE, PROGRAM, SHORT, TWO, WIDE, WIDE_LOG
 
 LOOSE = ((None, 0), (("exact", (ONE, (NONE, NONE))), ("round", 1, "near", (NONE, (HALF, HALF, NONE))), ("least", 3, 1)))
@@ -72,4 +72,47 @@ LOOP_SAMPLES = [
     (loops.never_runs_off, {"many": 2, "loop": LOOP}, []),
     (loops.never_runs_off, {"many": 1, "loop": ("down", ONE, NONE)}, []),
 ]
-MORE_SAMPLES = REWRITE_SAMPLES + ALIKE_SAMPLES + END_SAMPLES + PASSING_SAMPLES + LOOP_SAMPLES
+FAR_SAMPLES = [
+    (far.size_row, {"many": 2, "rate": (-1, 2), "length": 5}, []),
+    (far.size_row, {"many": 2, "rate": (-1, 2), "length": 1}, []),
+    (far.last_outward, {"many": 1, "rate": (-3, 4)}, []),
+    (far.greatest_size, {"many": 1, "rate": (-3, 4)}, []),
+    (far.farthest_value, {"many": 1, "rate": (-3, 4)}, []),
+    (far.is_reached, {"levels": TWO, "rate": (1, 3)}, []),
+    (far.near_chain, {"many": 2, "loop": ("near", (-1, 2), (3, 1)), "hair": (1, 10)}, []),
+    (far.off_chain, {"many": 2, "loop": ("near", (-7, 8), (3, 1)), "rounds": 4}, []),
+    (far.off_chain, {"many": 2, "loop": ("down", ONE, (3, 1)), "rounds": 4}, []),
+    (far.off_chain, {"many": 2, "loop": ("up", (-3, 2), (3, 1)), "rounds": 4}, []),
+]
+SURE = ("at least", (NONE, (ONE, NONE, NONE, NONE, BACK)))
+TREES = (("cases", 1, (("closed", (NONE, NONE, ONE, ONE, NONE)), ("closed", (NONE, NONE, ONE, ONE, NONE)))),)
+GONE = ((0, "down", (5, 1), NONE), (0, "member", (3, 1), (3, 1)))
+STATEMENTS = [
+    ("possible", WIDE_LOG), ("impossible", GONE), ("can have", WIDE_LOG, ((0, ONE),), ((1, (2, 1)),)),
+    ("cannot have", WIDE_LOG, (), ((1, NONE),)), ("sure", WIDE_LOG, SHORT, FACTS, SURE), ("not sure", (), SHORT, FACTS, ("above", SURE[1])),
+    ("drift", (), ((0,), ()), (), 0, NONE), ("more drift", (), SHORT, FACTS, 2, HALF), ("alike", (), TIGHT, TIGHT, FACTS),
+    ("unlike", (), PLAIN, ((None,), ()), ()), ("same", WORD, WORD), ("parted", WORD, OTHER),
+]
+PAPER_SAMPLES = [
+    (trees.leaves, {"trees": TREES}, []),
+    (trees.trimmed, {**ASKED, "trees": papers.paper(WIDE, STATEMENTS[4])}, []),
+    (trees.trimmed, {"levels": WIDE, "log": (), "program": ((None,), (("least", 0, 0),)), "facts": (),
+                     "trees": (("cases", 0, (("closed", (ONE, NONE, ONE, NONE)), ("closed", (ONE, NONE, NONE, NONE)))),)}, []),
+]
+for statement in STATEMENTS:
+    asked, shown = {"levels": WIDE, "statement": statement}, papers.paper(WIDE, statement)
+    PAPER_SAMPLES += [
+        (papers.is_statement, {"levels": WIDE, "thing": statement}, ["thing"]), (papers.denied, {"statement": statement}, []),
+        (papers.stands, asked, []), (papers.paper, asked, []), (papers.is_paper, {**asked, "thing": shown}, ["thing"]),
+        (papers.told_by, {**asked, "thing": None}, []),
+    ]
+DESK_SAMPLES = [
+    (desk.desk, {"text": "note a 0 down 1 0\nlog a"}, []),
+    (desk.desk, {"text": ""}, []),
+    (desk.is_request, {"thing": "levels\n low"}, ["thing"]),
+    (desk.stretches_text, {"stretches": ((NONE, True, ONE, False), ((3, 1), False, None, False))}, []),
+    (desk.stretches_text, {"stretches": ()}, []),
+    (desk.entry_text, {"entry": ("ab", 7)}, []),
+    (desk.form_by, {"text": "x1 - 2*x0", "many": 2}, []),
+]
+MORE_SAMPLES = REWRITE_SAMPLES + ALIKE_SAMPLES + END_SAMPLES + PASSING_SAMPLES + LOOP_SAMPLES + FAR_SAMPLES + PAPER_SAMPLES + DESK_SAMPLES

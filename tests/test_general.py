@@ -8,7 +8,8 @@ from tests.more_samples import MORE_SAMPLES
 from tests.samples import SAMPLES
 
 
-LISTS = ("traces", "cell_levels", "letter_forms", "denials", "conditions", "all_reduced", "loop_run")
+LISTS = ("traces", "cell_levels", "letter_forms", "denials", "conditions", "all_reduced", "loop_run",
+         "size_row", "desk")
 
 
 def parts_of_result(function, result):

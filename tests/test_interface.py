@@ -72,6 +72,12 @@ FUNCTIONS = {
     "loops": """is_loop(thing), still_point(loop), one_round(levels, chain, loop, y),
         loop_run(levels, chain, loop, start, rounds), loop_log(levels, chain, loop, start, rounds),
         ring_of(levels, chain, loop, start, rounds), never_runs_off(many, loop)""",
+    "far": """size_row(many, rate, length), last_outward(many, rate), greatest_size(many, rate),
+        farthest_value(many, rate), is_reached(levels, rate), near_chain(many, loop, hair), off_chain(many, loop, rounds)""",
+    "trees": "leaves(trees), trimmed(levels, log, program, facts, trees)",
+    "papers": """is_statement(levels, thing), denied(statement), stands(levels, statement), paper(levels, statement),
+        is_paper(levels, statement, thing), told_by(levels, statement, thing)""",
+    "desk": "desk(text), is_request(thing), stretches_text(stretches), entry_text(entry), form_by(text, many)",
     "gaps": "worst_gap(levels, chain, level), keeps_gaps(levels, chain), shows(levels, chain, log)",
 }
 ERRORS = {

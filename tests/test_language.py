@@ -53,6 +53,12 @@ def bound_names(tree):
     return found
 
 
+def table_names(tree):
+    """The names of the lists and dicts at module level."""
+    return {node.targets[0].id for node in tree.body
+            if isinstance(node, ast.Assign) and isinstance(node.value, (ast.List, ast.Dict))}
+
+
 class Language(unittest.TestCase):
     def trees(self):
         return [(path, ast.parse(path.read_text(encoding="utf-8"))) for path in files()]
@@ -178,11 +184,25 @@ class Language(unittest.TestCase):
             own = {node.name for one in files() for node in ast.walk(ast.parse(one.read_text()))
                    if isinstance(node, (ast.FunctionDef, ast.ClassDef))}
             library = set().union(*LIBRARY.values())
+            tables = table_names(tree)
+            actions = {node.targets[0].id for node in ast.walk(tree) if isinstance(node, ast.Assign)
+                       and isinstance(node.value, ast.Subscript) and isinstance(node.value.value, ast.Name)
+                       and node.value.value.id in tables}
             for node in ast.walk(tree):
                 if isinstance(node, ast.Call):
                     name = called_name(node)
                     allowed = METHODS if isinstance(node.func, ast.Attribute) else BUILTINS | library
-                    self.check(node, name in allowed or name in own or name == "__init__")
+                    self.check(node, name in allowed or name in own or name in actions or name == "__init__")
+
+    def test_tables_are_only_read(self):
+        tables = set().union(*[table_names(tree) for _, tree in self.trees()])
+        for _, tree in self.trees():
+            right = {id(node.value) for node in ast.walk(tree) if isinstance(node, ast.Subscript) and isinstance(node.ctx, ast.Load)}
+            right |= {id(one) for node in ast.walk(tree) if isinstance(node, ast.Compare) for one in node.comparators
+                      if isinstance(node.ops[0], (ast.In, ast.NotIn))}
+            for node in ast.walk(tree):
+                if isinstance(node, ast.Name) and node.id in tables and isinstance(node.ctx, ast.Load):
+                    self.assertIn(id(node), right, node.id)
 
     def test_names_that_are_read_are_allowed_builtins(self):
         for node in self.nodes(ast.Name):
