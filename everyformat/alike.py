@@ -4,7 +4,7 @@ from everyformat.cases import check_bearable
 from everyformat.decide import counter
 from everyformat.errors import Unfit
 from everyformat.programs import moved_step, size_of_program
-from everyformat.rewrite import check_step_place, rewritten, with_step
+from everyformat.rewrite import rewritten, with_step
 from everyformat.search import Field, some_letters
 from everyformat.shapes import check_place, tupled
 from everyformat.straight import minus_forms, single_form
@@ -57,7 +57,6 @@ def _short_difference(levels, program, other):
 
 
 def is_let(levels, log, program, facts, place, step):
-    check_step_place(program, place)
     return is_alike(levels, log, with_step(program, place, step), program, facts)
 
 

@@ -50,8 +50,6 @@ def parts_of(line):
     shape = SHAPES[word]
     if shape and shape[-1] in ("line", "claim"):
         parts = line.split(" ", len(shape))
-        if parts[-1] == "":
-            return None
     else:
         parts = line.split(" ")
     if shape and shape[-1] in ("hands", "words"):

@@ -40,16 +40,11 @@ def cells_of(step):
 
 
 def with_step(program, place, step):
-    check_step_place(program, place)
+    if place < len(program[0]) or place >= size_of_program(program):
+        raise NoPlace(place)
     starts, steps = tupled(program)
     at = place - len(starts)
     return (starts, steps[:at] + (tupled(step),) + steps[at + 1:])
-
-
-def check_step_place(program, place):
-    """Raises NoPlace(place) if the cell at place is none, or a start."""
-    if place < len(program[0]) or place >= size_of_program(program):
-        raise NoPlace(place)
 
 
 class Traced:

@@ -62,7 +62,10 @@ class Shapes(unittest.TestCase):
     def test_hands(self):
         for hand, wanted in (("a", True), ("abcdefgh", True), ("zzzz", True), ("abcdefghi", False), ("A", False), ("a1", False), ("a_b", False),
                              ("", False), ("\u00e4", False)):
-            for line in ("undo {}", "hear a {}", "strike a {} 0", "agree a b {}", "hear {} b", "note {} x", "claim {} equal x"):
+            for line in ("note {} x", "strike {} a 0", "strike a {} 0", "restore {} a 0", "restore a {} 0", "undo {}", "hear {} a", "hear a {}", "log {}",
+                         "chain {}", "entries {}", "standing {}", "hands {}", "turn {} a 0", "turn a {} 0", "possible {}", "behind {} a", "behind a {}",
+                         "agree {} a", "agree a {}", "agree a b {} a", "clash {}", "rift {}", "fewest {}", "member {} 0 1", "results {} 0 up 1",
+                         "status {} x", "claim {} equal x", "drift {} 0", "alike {}\n a free"):
                 self.assertIs(is_request(line.format(hand)), wanted, line.format(hand))
 
     def test_numbers(self):
@@ -221,6 +224,8 @@ class Requests(unittest.TestCase):
                    "yes", "no", "refused Unfit", "refused Unfit", "refused BadLine", "done", "yes")
         self.check([with_text("alike h", "x free"), with_text("alike h", ""), with_text("alike h", "?")],
                    "refused Unfit", "refused Unfit", "refused BadLine")
+        self.check([with_text("alike h", "a = 1"), with_text("program", "a = 1"), with_text("alike h", ""), with_text("alike h", "a = 2/2")],
+                   "refused Unfit", "done", "refused Unfit", "yes")
         long = "a free\nb = near.0(a) + near.0(2*a) + near.0(3*a) + near.0(5*a)"
         self.check([with_text("program", long), with_text("alike h", "a free"), with_text("alike h", long)], "refused TooMuch", "yes")
 

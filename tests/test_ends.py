@@ -269,6 +269,14 @@ class Choices(unittest.TestCase):
         self.assertEqual(sure_choices(LOW, log, program, facts), ())
         self.check_wrong((LOW, log, program, facts), 0, wrong_choice(LOW, log, program, facts, 0))
 
+    def test_never_by_a_value_of_0(self):
+        for kind, x, y in (("up", "-1/2", 0), ("down", 0, -1), ("near", "-1/3", 0)):
+            program = ((None,), (("round", 0, kind, form(1)), ("pick", form(0, 1), 0, 1)))
+            facts = ((form(1, fixed=-Fraction(x)), False), (form(-1, fixed=Fraction(x)), False))
+            log = ((0, kind, pair(x), pair(y)),)
+            self.assertEqual(choice_status(LOW, log, program, facts, 0), "never")
+            self.check_wrong((LOW, log, program, facts), 0, wrong_choice(LOW, log, program, facts, 0))
+
     def test_no_run(self):
         self.assertEqual(choice_status(LOW, (), SIGN, (((BACK, (NONE, NONE)), False),), 0), "none")
         self.assertEqual(sure_choices(LOW, (), SIGN, (((BACK, (NONE, NONE)), False),)), (0,))

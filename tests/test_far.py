@@ -208,9 +208,9 @@ class NearChains(unittest.TestCase):
     def test_all_rates(self):
         for many in range(1, 6):
             for at, rate in enumerate(RATES):
-                if stays(many, rate):
+                if stays(many, rate) and (at % 3 == many % 3 or len(outward(many, rate)) > 9):
                     loop = ("near", pair(rate), [(0, 1), (-999999, 10 ** 6), (10 ** 6, 999999)][at % 3])
-                    self.check(many, loop, [(1, 10), (3, 10 ** 6), (10 ** 6, 7)][at % 3], ALL_SIDES[at % 3:at % 3 + 2])
+                    self.check(many, loop, [(1, 10), (3, 10 ** 6), (10 ** 6, 7)][at % 3], ALL_SIDES[at % 3:at % 3 + 1])
 
     def test_unfit(self):
         for kind in ("down", "up"):
@@ -248,8 +248,8 @@ class OffChains(unittest.TestCase):
         for many in range(1, 6):
             some = [rate for rate in RATES if -1 <= rate < 0 and not stays(many, rate)]
             self.assertTrue(some)
-            for rate in some[::5] + some[-1:]:
-                self.check(many, ("near", pair(rate), (-5, 3)), 60, ALL_SIDES[:2])
+            for rate in some[::16] + some[-1:]:
+                self.check(many, ("near", pair(rate), (-5, 3)), 60, ALL_SIDES[2:3])
 
     def test_few_rounds(self):
         for loop in (("near", (-1, 1), (3, 1)), ("down", (2, 1), (0, 1)), ("up", (1, 1), (1, 3)), ("near", (-7, 8), (3, 1))):

@@ -69,6 +69,7 @@ class Statements(unittest.TestCase):
             ("possible", ((1, "down", ONE, NONE),)), ("can have", (), ((1, ONE),), ()), ("can have", (), (), ((-1, ONE),)),
             ("can have", (), ((0, ONE, ONE),), ()), ("same", ((1, "down"),), ()), ("same", (), ((0, "member"),)),
             ("sure", (), ((1,), ()), (), ("equal", (NONE, (ONE,)))),
+            ("alike", (), ((), (("exact", (NONE, ())),)), ((), ()), ()), ("alike", (), ((), ()), ((), (("exact", (NONE, ())),)), ()),
         ):
             self.assertIs(is_statement(PLAIN, thing), False, thing)
         self.assertIs(is_statement(PLAIN, drift[:4] + (0, (10 ** 40, 7))), True)
@@ -205,6 +206,7 @@ class Kinds(unittest.TestCase):
     def test_narrower_members_of_others(self):
         statement = ("cannot have", (), ((0, ONE),), ((1, ONE), (0, TWO)))
         self.assertIs(is_paper(PLAIN * 2, statement, ("told", 0)), True)
+        self.assertIs(is_paper(PLAIN * 2, ("cannot have", (), ((1, ONE),), ((0, ONE),)), ("told", 0)), False)
         wide = ("can have", (), ((1, ONE),), ((0, ONE),))
         self.assertIs(stands(PLAIN * 2, wide), True)
 
@@ -219,6 +221,10 @@ class Kinds(unittest.TestCase):
             self.assertIs(stands(SEVEN, statement), True)
             self.assertIs(is_paper(SEVEN, statement, paper(SEVEN, statement)), True)
             self.assertIs(stands(SEVEN, denied(statement)), False)
+        sure = ("sure", BAD, PROGRAM, (), CLAIM)
+        for thing, wanted in (((("fault", ("inside", 0, 2)),), False), ((("fault", ("long", 0, (NONE, False, (10, 1), False))),), True),
+                              ((("faults", ("long", 0, (NONE, False, (10, 1), False))),), False)):
+            self.assertIs(is_paper(SEVEN, sure, thing), wanted)
 
     def test_run_papers(self):
         chain = ((TWO, ONE), (((NONE, ONE), ()),))
@@ -246,6 +252,8 @@ class Kinds(unittest.TestCase):
         self.assertEqual(paper(GAPPED, statement), ((0, "down"),))
         for thing in (statement[1], ((1, "down"),), ((False, "down"),), ()):
             self.assertIs(is_paper(GAPPED, statement, thing), False)
+        for thing in (((0, "down"),), ((0, "up"),), ()):
+            self.assertIs(is_paper(GAPPED, ("same", ((0, "down"),), ((0, "up"),)), thing), False)
         narrow = ("parted", ((0, "down"),), ((0, "up"),))
         wide = ((TWO, ONE), (((NONE,), ()), ((), ())))
         self.assertIs(is_paper(PLAIN * 2, narrow, (wide, ONE)), True)
