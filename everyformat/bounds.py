@@ -9,6 +9,8 @@ from everyformat.search import Spot, open_places, root_of
 from everyformat.straight import scaled_form
 
 ENDLESS = (None, False)
+# How many CONDITIONS are tried out, those first that are farthest from holding.
+TRIES = 5
 
 
 def most_of(field, pairs, form):
@@ -24,7 +26,7 @@ def most_of(field, pairs, form):
             continue
         places = open_places(field, Spot(corner, endless))
         if places:
-            nodes.extend(_branches(field, corner, made, places[0], best))
+            nodes.extend(_fewest_branches(field, corner, made, places[:TRIES], best))
         elif endless is not None:
             return ENDLESS
         else:
@@ -48,6 +50,18 @@ def _is_more(value, other):
     if is_less(value[0], other[0]) or is_less(other[0], value[0]):
         return is_less(other[0], value[0])
     return value[1] and not other[1]
+
+
+def _fewest_branches(field, corner, made, places, best):
+    """The corners for the cases of that one of some CONDITIONS for which they are fewest."""
+    fewest = None
+    for place in places:
+        branches = _branches(field, corner, made, place, best)
+        if fewest is None or len(branches) < len(fewest):
+            fewest = branches
+        if len(fewest) <= 1:
+            break
+    return fewest
 
 
 def _branches(field, corner, made, place, best):
